@@ -1,0 +1,1 @@
+"""Deltamill: a dataflow over counted rows that keeps its answers."""
