@@ -25,6 +25,11 @@ def bag_of_tally(counts):
     return made
 
 
+def tally_in(bag):
+    """A dict of its own from the rows in the bag to their counts."""
+    return {row: bag._counts[row] for row in bag._counts}
+
+
 class Bag:
     """Each row has a count; a row is in the bag if its count is not 0."""
 
@@ -93,6 +98,8 @@ class Bag:
         return bag_of_tally(times(self._counts, other))
 
     def __rmul__(self, other):
+        if not is_number(other):
+            return NotImplemented
         return self * other
 
     def __and__(self, other):

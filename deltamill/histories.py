@@ -133,6 +133,8 @@ class History:
         return history_of_tally(self.axes, times(self._counts, other))
 
     def __rmul__(self, other):
+        if not is_number(other):
+            return NotImplemented
         return self * other
 
 

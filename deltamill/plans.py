@@ -98,11 +98,16 @@ def is_polynomial(plan):
     return all([node[0] in POLYNOMIAL for _, node in walk_parts(plan)])
 
 
-def degree(plan):
-    """The degree of a polynomial plan."""
+def check_polynomial(plan):
+    """Raise NotPolynomial with the path of the first node, in preorder, that a polynomial plan cannot have."""
     for path, node in walk_parts(plan):
         if node[0] not in POLYNOMIAL:
             raise NotPolynomial(path)
+
+
+def degree(plan):
+    """The degree of a polynomial plan."""
+    check_polynomial(plan)
     return degree_of(plan)
 
 

@@ -6,6 +6,8 @@ import unittest
 
 from deltamill.bags import Bag, is_row
 from deltamill.errors import BadCount, BadRow
+from deltamill.histories import History
+from deltamill.polynomials import Polynomial
 from samples import GREAT, NO_NUMBERS, NO_ROWS, Odd, refused
 
 ROWS = ((), (0,), (1,), (-1,), (1, 2), (2, 1), (GREAT,), (-GREAT, 0, 5), (0,) * 12)
@@ -178,7 +180,7 @@ class Operators(unittest.TestCase):
 
     def test_other_operands(self):
         bag = Bag.of((1,))
-        for value in (True, False, None, 1.0, "a", [1]):
+        for value in (True, False, None, 1.0, "a", [1], Bag(), History(1), Polynomial()):
             with self.assertRaises(TypeError):
                 bag * value
             with self.assertRaises(TypeError):

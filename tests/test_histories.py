@@ -9,6 +9,7 @@ from deltamill.errors import BadAxes, BadCount, BadMoment, BadRow, DoubleMoment,
 from deltamill.fronts import Front
 from deltamill.histories import History, first_difference
 from deltamill.moments import before
+from deltamill.polynomials import Polynomial
 from samples import GREAT, NO_NUMBERS, NO_ROWS, Odd, refused
 
 # Moments up to this coordinate are looked at; changes and fronts use lesser coordinates.
@@ -214,7 +215,7 @@ class Operators(unittest.TestCase):
 
     def test_other_operands(self):
         history = History(1, [((0,), (), 1)])
-        for value in (True, False, None, 1.0, "a", [1]):
+        for value in (True, False, None, 1.0, "a", [1], Bag(), History(1), Polynomial()):
             with self.assertRaises(TypeError):
                 history * value
             with self.assertRaises(TypeError):

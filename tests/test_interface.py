@@ -1,0 +1,79 @@
+"""The names, arguments and places of the interface, for all modules that there are so far."""
+
+import importlib
+import inspect
+import unittest
+
+FUNCTIONS = {
+    "moments": {"is_moment": "value axes", "before": "first second", "join_of": "first second",
+                "meet_of": "first second", "closure": "moments", "corners": "moment"},
+    "bags": {"is_row": "value"},
+    "histories": {"first_difference": "first second front"},
+    "terms": {"col": "column", "num": "number", "value_of": "term row", "values_of": "terms row", "holds": "tests row",
+              "composed": "term terms", "is_plain": "term"},
+    "plans": {"width_of": "plan widths", "walk_parts": "plan", "part_at": "plan path", "replaced": "plan path other",
+              "tables_of": "plan", "substituted": "plan name other", "is_monotone": "plan", "is_polynomial": "plan",
+              "degree": "plan"},
+    "reader": {"show": "plan", "read": "text"},
+    "plain": {"worked": "node *bags", "answer": "plan tables"},
+    "rounds": {"rounds_of": "plan tables", "ranks": "plan tables"},
+    "machines": {"machine_of": "node axes"},
+    "origins": {"origin": "plan tables row", "origins": "plan tables"},
+    "rules": {"fitting": "plan widths", "rewritten": "plan rule path widths", "normal": "plan widths",
+              "replayed": "plan steps widths"}}
+
+# For each class its arguments and its methods with theirs; a property has None.
+CLASSES = {
+    "fronts.Front": ("axes moments", {
+        "moments": "", "advances": "other", "fold": "moment", "parting": "first second", "everything": "axes",
+        "nothing": "axes", "__contains__": "x", "__len__": "", "__eq__": "other", "__and__": "other",
+        "__or__": "other"}),
+    "bags.Bag": ("pairs", {
+        "of": "*rows", "pairs": "", "support": "", "total": None, "is_plain": None, "__add__": "other",
+        "__sub__": "other", "__neg__": "", "__mul__": "other", "__rmul__": "other", "__and__": "other",
+        "__or__": "other", "__abs__": "", "__eq__": "other", "__len__": "", "__contains__": "x", "__getitem__": "at"}),
+    "histories.History": ("axes changes", {
+        "changes": "", "moments": "", "at": "moment", "step": "moment", "folded": "front", "seen": "front",
+        "of_answers": "axes answers", "__add__": "other", "__sub__": "other", "__neg__": "", "__mul__": "other",
+        "__rmul__": "other", "__eq__": "other", "__len__": ""}),
+    "base.Machine": (None, {
+        "take": "side news", "close": "side front", "front_of": "side", "memory": "side", "kept": None}),
+    "polynomials.Polynomial": ("terms", {
+        "of_token": "name row", "of_number": "number", "terms": "", "tokens": "", "value": "tables",
+        "changed": "name row by", "fixed": "name row count", "degree": None, "__add__": "other", "__sub__": "other",
+        "__neg__": "", "__mul__": "other", "__rmul__": "other", "__pow__": "other", "__eq__": "other",
+        "__len__": ""})}
+
+
+def arguments(function):
+    """The arguments as one text."""
+    kinds = inspect.Parameter
+    return " ".join(("*" if one.kind == kinds.VAR_POSITIONAL else "") + one.name
+                    for one in inspect.signature(function).parameters.values() if one.name not in ("self", "cls"))
+
+
+class Interface(unittest.TestCase):
+    def test_functions(self):
+        for module, functions in FUNCTIONS.items():
+            for name, expected in functions.items():
+                function = getattr(importlib.import_module(f"deltamill.{module}"), name)
+                self.assertEqual(function.__module__, f"deltamill.{module}", name)
+                self.assertEqual(arguments(function), expected, name)
+
+    def test_classes(self):
+        for place, (expected, methods) in CLASSES.items():
+            module, name = place.split(".")
+            found = getattr(importlib.import_module(f"deltamill.{module}"), name)
+            self.assertEqual(found.__module__, f"deltamill.{module}")
+            if expected is not None:
+                self.assertEqual(arguments(found), expected)
+            for method, expected in methods.items():
+                self.assertIn(method, vars(found), (name, method))
+                if expected is None:
+                    self.assertIsInstance(vars(found)[method], property, (name, method))
+                else:
+                    self.assertEqual(arguments(getattr(found, method)), expected, (name, method))
+
+
+if __name__ == "__main__":
+    unittest.main()
