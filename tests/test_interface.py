@@ -20,7 +20,14 @@ FUNCTIONS = {
     "machines": {"machine_of": "node axes"},
     "origins": {"origin": "plan tables row", "origins": "plan tables"},
     "rules": {"fitting": "plan widths", "rewritten": "plan rule path widths", "normal": "plan widths",
-              "replayed": "plan steps widths"}}
+              "replayed": "plan steps widths"},
+    "deltas": {"change_plan": "plan"},
+    "queries": {"summands": "plan widths", "members": "plan widths", "plan_of": "query", "least_form": "query",
+                "mapping_of": "query other", "restricted": "query indexes", "core": "query"},
+    "kin": {"contained": "p q widths", "alike": "p q widths", "parting": "p q widths", "union_form": "plan widths",
+            "needless": "plan widths name row"},
+    "counts": {"count_form": "plan widths", "same_counts": "p q widths", "count_parting": "p q widths",
+               "news_paper": "plan widths first second"}}
 
 # For each class its arguments and its methods with theirs; a property has None.
 CLASSES = {
