@@ -54,6 +54,11 @@ class Machine:
         """The number of changes in the memories of all sides."""
         return sum([len(memory) for memory in self._memories])
 
+    def become_like(self, other):
+        """Take over the fronts and memories of another machine of the same part."""
+        self._fronts = list(other._fronts)
+        self._memories = list(other._memories)
+
     def _check_side(self, side):
         """Raise NoSide unless the machine has the side."""
         if not is_number(side) or not 0 <= side < self.sides:

@@ -4,6 +4,10 @@
 class MillError(ValueError):
     """The base class of all errors of deltamill."""
 
+    def class_word(self):
+        """The name of the error's class."""
+        return self.__class__.__name__
+
 
 class MomentError(MillError):
     """A moment is wrong; `moment` is that value, whatever it is."""

@@ -1,12 +1,13 @@
 """The machine of each part of a plan, the machines of a whole plan together, and the machine of a loop."""
 
 from deltamill.base import Machine
-from deltamill.forms import parts_below
+from deltamill.errors import NoPart
+from deltamill.forms import parts_below, subplans
 from deltamill.fronts import Front
 from deltamill.groups import meet_of_all
 from deltamill.histories import History, history_of_tally
 from deltamill.kinds import GroupingMachine, JoinMachine, StraightMachine
-from deltamill.plans import tables_of
+from deltamill.plans import part_at, tables_of
 
 
 def machine_of(node, axes):
@@ -31,13 +32,54 @@ def machine_parts(node, path):
     return found
 
 
+def tables_of_sides(node):
+    """For each side of the machine of a node, the list of the names of the free tables that feed it."""
+    if node[0] == "loop":
+        return [[name] for name in tables_of(node)]
+    return [tables_of(sub) for sub in subplans(node)]
+
+
+def front_of_tables(names, fronts, axes):
+    """The union of the fronts of these tables, for a dict from names to fronts."""
+    front = Front.nothing(axes)
+    for name in names:
+        front = front | fronts[name]
+    return front
+
+
 class Net:
     """The machines of a plan, one for each part that is not a table and lies in no loop."""
 
     def __init__(self, plan, axes):
         self.axes = axes
+        self.parts = machine_parts(plan, ())
         self._plan = plan
-        self._machines = {path: machine_of(node, axes) for path, node in machine_parts(plan, ())}
+        self._machines = {path: machine_of(node, axes) for path, node in self.parts}
+
+    def machine_at(self, path):
+        """The machine of the part with the path."""
+        part_at(self._plan, path)
+        if path not in self._machines:
+            raise NoPart(path)
+        return self._machines[path]
+
+    def close(self, fronts):
+        """Close all sides as the fronts of the tables say, for a dict from names to fronts."""
+        for path, node in self.parts:
+            for side, names in enumerate(tables_of_sides(node)):
+                self._machines[path].close(side, front_of_tables(names, fronts, self.axes))
+
+    def twin(self):
+        """Another net in the same state."""
+        made = Net(self._plan, self.axes)
+        for path, _ in self.parts:
+            made._machines[path].become_like(self._machines[path])
+        return made
+
+    @property
+    def kept(self):
+        """The number of changes in the memories of all machines."""
+        return sum([self._machines[path].kept for path, _ in self.parts])
 
     def feed(self, news):
         """Take news of tables, a dict from names to histories; return the change of the plan's answer."""

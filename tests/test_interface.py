@@ -27,7 +27,10 @@ FUNCTIONS = {
     "kin": {"contained": "p q widths", "alike": "p q widths", "parting": "p q widths", "union_form": "plan widths",
             "needless": "plan widths name row"},
     "counts": {"count_form": "plan widths", "same_counts": "p q widths", "count_parting": "p q widths",
-               "news_paper": "plan widths first second"}}
+               "news_paper": "plan widths first second"},
+    "wanted": {"fitting_changes": "plan sightings offers", "clash_tree": "plan sightings offers given:()",
+               "shows_clash": "tree plan sightings offers given:()", "settled": "plan sightings offers"},
+    "desk": {"first_wrong": "axes widths plans log keep:20"}}
 
 # For each class its arguments and its methods with theirs; a property has None.
 CLASSES = {
@@ -49,14 +52,30 @@ CLASSES = {
         "of_token": "name row", "of_number": "number", "terms": "", "tokens": "", "value": "tables",
         "changed": "name row by", "fixed": "name row count", "degree": None, "__add__": "other", "__sub__": "other",
         "__neg__": "", "__mul__": "other", "__rmul__": "other", "__pow__": "other", "__eq__": "other",
-        "__len__": ""})}
+        "__len__": ""}),
+    "mill.Mill": ("axes widths plans", {
+        "tell": "news", "close": "moments *names", "forget": "moments *outputs", "table_front": "name",
+        "output_front": "output", "output_since": "output", "answer": "output moment", "memory": "output path side",
+        "twin": "", "kept": None}),
+    "branches.Branches": ("widths tables names", {
+        "put": "branch table row count", "drop": "branch", "merge": "branch", "merged": "some", "answer": "plan some",
+        "news": "plan some", "clashes": ""}),
+    "desk.Desk": ("axes widths plans keep:20", {
+        "run": "line", "log": "", "attempt": "lines", "change_depth": "value", "depth": None})}
+
+
+def argument(one):
+    """One argument: with a star if it takes several, with its default value if it is passed by name alone."""
+    kinds = inspect.Parameter
+    if one.kind == kinds.KEYWORD_ONLY:
+        return f"{one.name}:{one.default!r}"
+    return ("*" if one.kind == kinds.VAR_POSITIONAL else "") + one.name
 
 
 def arguments(function):
     """The arguments as one text."""
-    kinds = inspect.Parameter
-    return " ".join(("*" if one.kind == kinds.VAR_POSITIONAL else "") + one.name
-                    for one in inspect.signature(function).parameters.values() if one.name not in ("self", "cls"))
+    return " ".join(argument(one) for one in inspect.signature(function).parameters.values()
+                    if one.name not in ("self", "cls"))
 
 
 class Interface(unittest.TestCase):
@@ -80,6 +99,12 @@ class Interface(unittest.TestCase):
                     self.assertIsInstance(vars(found)[method], property, (name, method))
                 else:
                     self.assertEqual(arguments(getattr(found, method)), expected, (name, method))
+
+    def test_errors(self):
+        errors = importlib.import_module("deltamill.errors")
+        for error in vars(errors).values():
+            if inspect.isclass(error) and error is not errors.MillError:
+                self.assertTrue(issubclass(error, errors.MillError))
 
 
 if __name__ == "__main__":
