@@ -1,8 +1,7 @@
 """Branches: several lists of changes of common tables, merged as one likes."""
 
 from deltamill.bags import Bag
-from deltamill.checks import is_number
-from deltamill.errors import BadCount, NoBranch
+from deltamill.errors import NoBranch
 from deltamill.plain import answer
 from deltamill.stocks import check_row, check_table
 
@@ -37,8 +36,7 @@ class Branches:
         self._check_branch(branch)
         check_table(table, self._widths)
         check_row(row, self._widths[table])
-        if not is_number(count):
-            raise BadCount(count)
+        # The bag raises BadCount.
         self._changes[branch][table] = self._changes[branch][table] + Bag([(row, count)])
 
     def drop(self, branch):
@@ -48,7 +46,6 @@ class Branches:
 
     def merge(self, branch):
         """Add the changes of a branch to the base tables and remove them from the branch."""
-        self._check_branch(branch)
         self._base = self.merged([branch])
         self.drop(branch)
 

@@ -48,7 +48,8 @@ def widest(queries):
     Over the tables of its own atoms, no other query makes the product of the counts of all of them: each way to make
     it would need as many variables, and then both would have the same least form.
     """
-    return max(queries, key=lambda query: len(variables_of(query[1])))
+    sizes = [len(variables_of(body)) for _, body in queries]
+    return queries[sizes.index(max(sizes))]
 
 
 def bound(terms, row, given):

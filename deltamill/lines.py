@@ -22,7 +22,7 @@ def read_number(word):
 
 def read_row(word):
     """The row or the moment that is written so."""
-    if len(word) < 2 or not word.startswith("(") or not word.endswith(")"):
+    if not word.startswith("(") or not word.endswith(")"):
         raise BadLine()
     inside = word[1:-1]
     return tuple([read_number(piece) for piece in inside.split(",")]) if inside else ()

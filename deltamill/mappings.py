@@ -33,7 +33,7 @@ def given_by_head(head, other):
 
 def choices_of(variable, body, atoms, given):
     """The ascending list of the terms that the variable can have where it occurs in the body."""
-    found = [given[variable]] if variable in given else None
+    found = None
     for atom in body:
         if ("var", variable) in atom[1]:
             place = atom[1].index(("var", variable))

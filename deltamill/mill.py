@@ -18,6 +18,11 @@ def check_open(moments, front):
             raise NotAdvanced(moment)
 
 
+def listed(told):
+    """The list of the changes of all outputs, for a dict from outputs, in their order, to lists of changes."""
+    return [(output,) + change for output in told for change in told[output]]
+
+
 class Mill:
     """Plans over common tables: their machines, their outputs and the fronts of the tables."""
 
@@ -42,7 +47,7 @@ class Mill:
             changes.setdefault(name, []).append((moment, row, count))
         histories = {name: History(self.axes, changes[name]) for name in changes}
         told = {output: self._outputs[output].tell(histories).changes() for output in self._outputs}
-        return self._listed(told)
+        return listed(told)
 
     def _check_entry(self, name, moment, row, count):
         """Raise an error unless the change can be told."""
@@ -53,10 +58,6 @@ class Mill:
             raise BadCount(count)
         if moment not in self._fronts[name]:
             raise TooLate(moment)
-
-    def _listed(self, told):
-        """The list of the changes of all outputs, for a dict from outputs, in their order, to lists of changes."""
-        return [(output,) + change for output in told for change in told[output]]
 
     def close(self, moments, *names):
         """Set the fronts of tables; return the list of the changes of the outputs that have become final."""
@@ -69,7 +70,7 @@ class Mill:
         for name in closed:
             self._fronts[name] = front
         told = {output: self._outputs[output].close(self._fronts) for output in self._outputs}
-        return self._listed(told)
+        return listed(told)
 
     def forget(self, moments, *outputs):
         """Set from when on outputs may be asked."""

@@ -38,9 +38,9 @@ class Outlook:
                     for row in self._rows(index, inside, undecided)])
 
     def _row_fits(self, index, row, inside, undecided):
-        """Whether the count of the row fits whatever is decided."""
+        """Whether the count of the row, which has bounds, fits whatever is decided."""
         low, high = self._bounds(index, row)
-        if low is not None and self._floor(index, inside, undecided)[row] < low:
+        if self._floor(index, inside, undecided)[row] < low:
             return False
         return high is None or self._ceiling(index, inside, undecided)[row] <= high
 

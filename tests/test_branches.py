@@ -94,7 +94,8 @@ class Changes(unittest.TestCase):
         for call in (self.made.drop, self.made.merge):
             for branch in ("three", "a", "", Odd(), None, ["one"]):
                 refused(self, NoBranch, {"name": branch}, call, branch)
-        for some, wrong in ((["three"], "three"), (["one", "a", "three"], "a"), (["two", "x", "one", "y"], "x")):
+        for some, wrong in ((["three"], "three"), (["one", "a", "three"], "a"), (["two", "x", "one", "y"], "x"),
+                            (["three", "a"], "three"), (["one", "two", "z", "a", "z"], "z")):
             refused(self, NoBranch, {"name": wrong}, self.made.merged, some)
             refused(self, NoBranch, {"name": wrong}, self.made.answer, read("a"), some)
             refused(self, NoBranch, {"name": wrong}, self.made.news, read("a"), some)

@@ -192,6 +192,15 @@ class NewsPaper(unittest.TestCase):
                 ("less(map[](join[](d,d)),map[](join[0=0](d,d)))", ["d"], ["d"])):
             self.check(read(text), first, second, WIDTHS)
 
+    def test_counts_for_which_the_news_are_empty(self):
+        # The count is n n n less 6 n n, so the news of two rows more are 6 n less 6: none if n is 1.
+        cube, square = "join[](e,join[](e,e))", "join[](e,e)"
+        six = f"plus(plus({square},{square}),plus(plus({square},{square}),plus({square},{square})))"
+        plan = read(f"less({cube},{six})")
+        one = {"e": Bag.of(())}
+        self.assertEqual(self.news(plan, one, one, one), Bag())
+        self.check(plan, ["e"], ["e"])
+
     def test_names_on_both_sides(self):
         # Only one atom has a name of both lists: one place is not two.
         self.assertIsNone(news_paper(read("join[](a,b)"), WIDTHS, ["a"], ["a"]))
