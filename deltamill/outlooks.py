@@ -5,76 +5,74 @@ from deltamill.plain import answer
 
 
 class Outlook:
-    """A monotone plan, sightings and offers. Offers are told by their indexes; answers are worked out once."""
+    """A monotone plan, sightings and offers. Offers are told by their indexes; answers are worked out once.
+
+    `inside` and `undecided` are lists of the indexes of the offers that are in and of those that are not decided.
+    """
 
     def __init__(self, plan, sightings, offers):
-        self.offers = list(offers)
-        self.sightings = list(sightings)
+        self.many = len(sightings)
         self._plan = plan
+        self._offers = list(offers)
+        self._tables = [tables for tables, _, _ in sightings]
+        self._bounds = [{row: (low, high) for row, low, high in wishes} for _, wishes, _ in sightings]
+        self._others = [(None, None) if rest else (0, 0) for _, _, rest in sightings]
         self._answers = {}
 
     def clash(self, inside, undecided):
-        """The least pair of an index of a sighting and a row that clashes in it, or None.
-
-        `inside` and `undecided` are lists of indexes of offers.
-        """
-        for index in range(len(self.sightings)):
-            rows = [row for row in self._rows(index, inside, undecided)
-                    if self.clashes(index, row, inside, undecided)]
+        """The least pair of the index of a sighting and a row that clashes in it, or None."""
+        for index in range(self.many):
+            floor = self._floor(index, inside, undecided)
+            ceiling = self._ceiling(index, inside, undecided)
+            rows = [row for row in self._rows(index, ceiling) if self._is_beyond(index, row, floor, ceiling)]
             if rows:
                 return (index, min(rows))
         return None
 
     def clashes(self, index, row, inside, undecided):
         """Whether the row clashes in the sighting."""
-        low, high = self._bounds(index, row)
-        if low is not None and self._ceiling(index, inside, undecided)[row] < low:
-            return True
-        return high is not None and self._floor(index, inside, undecided)[row] > high
+        floor = self._floor(index, inside, undecided)
+        return self._is_beyond(index, row, floor, self._ceiling(index, inside, undecided))
 
     def always_fits(self, inside, undecided):
         """Whether all lists with the offers inside, and with any of those that are not decided, fit."""
-        return all([self._row_fits(index, row, inside, undecided) for index in range(len(self.sightings))
-                    for row in self._rows(index, inside, undecided)])
+        for index in range(self.many):
+            floor = self._floor(index, inside, undecided)
+            ceiling = self._ceiling(index, inside, undecided)
+            # Where the floor and the ceiling change places, what is no clash fits for all bags in between.
+            if any([self._is_beyond(index, row, ceiling, floor) for row in self._rows(index, ceiling)]):
+                return False
+        return True
 
-    def _row_fits(self, index, row, inside, undecided):
-        """Whether the count of the row, which has bounds, fits whatever is decided."""
-        low, high = self._bounds(index, row)
-        if self._floor(index, inside, undecided)[row] < low:
-            return False
-        return high is None or self._ceiling(index, inside, undecided)[row] <= high
+    def _is_beyond(self, index, row, first, second):
+        """Whether the row's count in the first bag is greater than its bound, or that in the second one less."""
+        low, high = self._bounds[index].get(row, self._others[index])
+        if low is not None and second[row] < low:
+            return True
+        return high is not None and first[row] > high
 
-    def _bounds(self, index, row):
-        """The bounds of the row's count in the sighting, None for none."""
-        _, wishes, rest = self.sightings[index]
-        for wished, low, high in wishes:
-            if wished == row:
-                return (low, high)
-        return (None, None) if rest else (0, 0)
-
-    def _rows(self, index, inside, undecided):
-        """The rows of the sighting that have bounds and, if all rows have, those that can be in the bag."""
-        _, wishes, rest = self.sightings[index]
-        rows = [row for row, _, _ in wishes]
-        if not rest:
-            rows = rows + [row for row, _ in self._ceiling(index, inside, undecided).pairs()]
-        return rows
+    def _rows(self, index, ceiling):
+        """The rows of the sighting that have bounds, those that are in no bag left aside unless they are wished."""
+        wished = list(self._bounds[index])
+        if self._others[index] == (None, None):
+            return wished
+        return wished + [row for row, _ in ceiling.pairs()]
 
     def _floor(self, index, inside, undecided):
         """The bag of the sighting that no list of offers goes below."""
-        return self._answer(index, inside + [at for at in undecided if self.offers[at][2] < 0])
+        return self._answer(index, inside + [at for at in undecided if self._offers[at][2] < 0])
 
     def _ceiling(self, index, inside, undecided):
         """The bag of the sighting that no list of offers goes beyond."""
-        return self._answer(index, inside + [at for at in undecided if self.offers[at][2] > 0])
+        return self._answer(index, inside + [at for at in undecided if self._offers[at][2] > 0])
 
     def _answer(self, index, chosen):
         """The answer in the sighting with the chosen offers added."""
         key = (index, tuple(sorted(chosen)))
         if key not in self._answers:
-            tables = dict(self.sightings[index][0])
+            tables = dict(self._tables[index])
             for at in chosen:
-                name, row, count = self.offers[at]
+                name, row, count = self._offers[at]
                 tables[name] = tables.get(name, Bag()) + Bag([(row, count)])
             self._answers[key] = answer(self._plan, tables)
         return self._answers[key]

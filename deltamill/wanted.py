@@ -82,7 +82,7 @@ def stands(tree, outlook, inside, undecided):
         return False
     word, first, second = tree
     if word == "clash":
-        if not is_number(first) or not 0 <= first < len(outlook.sightings) or not is_row(second):
+        if not is_number(first) or not 0 <= first < outlook.many or not is_row(second):
             return False
         return outlook.clashes(first, second, inside, undecided)
     if word != "split" or not undecided:

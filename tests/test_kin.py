@@ -195,6 +195,10 @@ class Parting(unittest.TestCase):
 
 
 class UnionForm(unittest.TestCase):
+    def test_example(self):
+        plan = read("plus(map[c1](choose[c0=1](e)),map[c1](choose[c0=1&c1=5](e)))")
+        self.assertEqual(union_form(plan, {"e": 2}), [((("var", 0),), (("e", (("num", 1), ("var", 0))),))])
+
     def test_forms(self):
         var = [("var", number) for number in range(3)]
         for text, expected in (
