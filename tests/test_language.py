@@ -146,6 +146,14 @@ class Files(unittest.TestCase):
             if isinstance(node, ast.Call) and isinstance(node.func, ast.Attribute):
                 self.assertIn(node.func.attr, METHODS | own, name)
 
+    def test_methods_and_attributes(self):
+        methods = {part.name for tree in self.trees.values() for node in tree.body if isinstance(node, ast.ClassDef)
+                   for part in node.body if isinstance(part, ast.FunctionDef)}
+        given = {node.attr for _, node in self.nodes if isinstance(node, ast.Attribute)
+                 and isinstance(node.ctx, ast.Store)}
+        # The document names the one method and the one attribute that have the same name.
+        self.assertEqual(methods & given, {"value"})
+
     def test_words(self):
         for name, node in self.nodes:
             words = []
